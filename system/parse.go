@@ -55,22 +55,6 @@ func (p *parser) name(i int) string {
 	return ""
 }
 
-// sort returns the sort that item i denotes, or 0.
-func (p *parser) sort(i int) int {
-	switch {
-	case p.isSymbol(i, "Bool"):
-		return api.SortBool
-	case p.isSymbol(i, "Int"):
-		return api.SortInt
-	case p.isSymbol(i, "Real"):
-		return api.SortReal
-	}
-	if l, is := p.elements(i); is && len(l) == 3 && p.isSymbol(l[0], "Array") && p.isSymbol(l[1], "Int") && p.isSymbol(l[2], "Int") {
-		return api.SortArray
-	}
-	return 0
-}
-
 func (p *parser) command(i int) api.Errno {
 	l, is := p.elements(i)
 	if !is || len(l) == 0 || p.items[l[0]].Kind != api.ItemSymbol {
@@ -91,10 +75,10 @@ func (p *parser) declare(l []int) api.Errno {
 	if len(l) != 3 {
 		return api.ErrSyntax
 	}
-	f := api.Func{Name: p.name(l[0]), Result: p.sort(l[2])}
+	f := api.Func{Name: p.name(l[0]), Result: tree.ReadSort(p.items, l[2])}
 	sorts, is := p.elements(l[1])
 	for _, i := range sorts {
-		f.Args = append(f.Args, p.sort(i))
+		f.Args = append(f.Args, tree.ReadSort(p.items, i))
 	}
 	if f.Name == "" || f.Result == 0 || !is || slices.Contains(f.Args, 0) {
 		return api.ErrSyntax
@@ -160,10 +144,10 @@ func (p *parser) forall(l []int) ([]api.Var, api.Errno) {
 	var vars []api.Var
 	for _, d := range decls {
 		pair, is := p.elements(d)
-		if !is || len(pair) != 2 || p.name(pair[0]) == "" || p.sort(pair[1]) == 0 {
+		if !is || len(pair) != 2 || p.name(pair[0]) == "" || tree.ReadSort(p.items, pair[1]) == 0 {
 			return nil, api.ErrSyntax
 		}
-		vars = append(vars, api.Var{Name: p.name(pair[0]), Sort: p.sort(pair[1])})
+		vars = append(vars, api.Var{Name: p.name(pair[0]), Sort: tree.ReadSort(p.items, pair[1])})
 	}
 	seen := map[string]bool{}
 	for _, v := range vars {
