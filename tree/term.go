@@ -169,3 +169,14 @@ func IsBoolConnective(t api.Term) bool {
 	}
 	return false
 }
+
+// Conjunction returns OpTrue for no formulas, a single one itself, and otherwise their OpAnd.
+func Conjunction(l []api.Term) api.Term {
+	switch len(l) {
+	case 0:
+		return True()
+	case 1:
+		return Clone(l[0])
+	}
+	return And(l...)
+}
