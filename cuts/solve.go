@@ -2,6 +2,7 @@ package cuts
 
 import (
 	"slices"
+	"strings"
 
 	"chcsolver/api"
 	"chcsolver/exact"
@@ -108,11 +109,9 @@ func (s *search) node(path []assumption, split func(path []assumption)) {
 	if near := rounded(point); s.holds(near) {
 		panic(found{near})
 	}
-	if len(path) == 0 {
-		if c, k, is := s.parity(); is {
-			s.branch(path, c, k, 0, 0, split)
-			return
-		}
+	if c, k, is := parity(s.n, rows); is {
+		s.branch(path, c, k, 0, 0, split)
+		return
 	}
 	c := make([]exact.Rat, s.n)
 	c[at] = exact.One()
@@ -148,15 +147,35 @@ func (s *search) holds(point []exact.Rat) bool {
 	return !slices.ContainsFunc(s.rows, func(r lp.Row) bool { return !r.Holds(point) })
 }
 
+// equations returns the rows that are equations, and those that are one together with an opposite row.
+func equations(rows []lp.Row) []lp.Row {
+	var l []lp.Row
+	known := map[string]exact.Rat{}
+	for _, r := range rows {
+		if r.Rel == api.RowEq {
+			l = append(l, r)
+			continue
+		}
+		low, high := halves(r.C, r.K)
+		negative := strings.Join(lp.Format(high.C), " ")
+		if k, is := known[negative]; is && k.Add(low.K).IsZero() {
+			l = append(l, r)
+		}
+		key := strings.Join(lp.Format(low.C), " ")
+		if k, is := known[key]; !is || low.K.Cmp(k) < 0 {
+			known[key] = low.K
+		}
+	}
+	return l
+}
+
 // parity looks for a combination of the equations with integer coefficients and a bound that is no integer.
 // It brings the coefficients into triangular form by operations on columns, which keep integers integers.
-func (s *search) parity() ([]exact.Rat, exact.Rat, bool) {
-	var equations, matrix [][]exact.Rat
+func parity(n int, rows []lp.Row) ([]exact.Rat, exact.Rat, bool) {
+	var coefs, matrix [][]exact.Rat
 	var bounds []exact.Rat
-	for _, r := range s.rows {
-		if r.Rel == api.RowEq {
-			equations, matrix, bounds = append(equations, r.C), append(matrix, slices.Clone(r.C)), append(bounds, r.K)
-		}
+	for _, r := range equations(rows) {
+		coefs, matrix, bounds = append(coefs, r.C), append(matrix, slices.Clone(r.C)), append(bounds, r.K)
 	}
 	var values []exact.Rat    // of the variables of the triangular form
 	var factors [][]exact.Rat // the combinations of the equations that yield them
@@ -178,7 +197,7 @@ func (s *search) parity() ([]exact.Rat, exact.Rat, bool) {
 			combination[k] = combination[k].Div(row[column])
 		}
 		if !value.IsInt() {
-			return combine(equations, combination, s.n), exact.FromInt(value.Floor()), true
+			return combine(coefs, combination, n), exact.FromInt(value.Floor()), true
 		}
 		values, factors = append(values, value), append(factors, combination)
 	}
