@@ -18,20 +18,6 @@ func Scaled(r lp.Row, k exact.Rat) lp.Row {
 	return out
 }
 
-// primitive returns the positive number that makes numbers, not all of which are 0, integers without a common divisor.
-func primitive(l []exact.Rat) exact.Rat {
-	den, num := exact.FromInt64(1), exact.Int{}
-	for _, x := range l {
-		g := exact.Gcd(den, x.Den())
-		q, _ := x.Den().QuoRem(g)
-		den = den.Mul(q)
-	}
-	for _, x := range l {
-		num = exact.Gcd(num, x.Mul(exact.FromInt(den)).Num())
-	}
-	return exact.Quotient(den, num)
-}
-
 // first returns the position of the first coefficient other than 0, or -1.
 func first(c []exact.Rat) int {
 	return slices.IndexFunc(c, func(x exact.Rat) bool { return !x.IsZero() })
@@ -107,7 +93,7 @@ func echelon(n int, rows []lp.Row) []lp.Row {
 		out = append(out, pivot)
 	}
 	for i, r := range out {
-		out[i] = Scaled(r, primitive(r.C))
+		out[i] = Scaled(r, lp.Primitive(r.C))
 	}
 	return out
 }
@@ -123,7 +109,7 @@ func reduced(rows, equations []lp.Row) []lp.Row {
 		if first(r.C) < 0 {
 			continue
 		}
-		r = Scaled(r, primitive(r.C))
+		r = Scaled(r, lp.Primitive(r.C))
 		r.Rel = api.RowLe
 		i := slices.IndexFunc(out, func(o lp.Row) bool { return compare(o, r) == 0 })
 		switch {

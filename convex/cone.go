@@ -43,7 +43,7 @@ func combine(a exact.Rat, v Vector, b exact.Rat, w Vector) Vector {
 		out[i] = a.Mul(v[i]).Add(b.Mul(w[i]))
 	}
 	if first(out) >= 0 {
-		k := primitive(out)
+		k := lp.Primitive(out)
 		for i := range out {
 			out[i] = out[i].Mul(k)
 		}

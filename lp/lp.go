@@ -134,3 +134,17 @@ func (t *tableau) ray(column, dir int) []string {
 	}
 	return Format(l)
 }
+
+// Primitive returns the positive number that makes numbers, not all of which are 0, integers without a common divisor.
+func Primitive(l []exact.Rat) exact.Rat {
+	den, num := exact.FromInt64(1), exact.Int{}
+	for _, x := range l {
+		g := exact.Gcd(den, x.Den())
+		q, _ := x.Den().QuoRem(g)
+		den = den.Mul(q)
+	}
+	for _, x := range l {
+		num = exact.Gcd(num, x.Mul(exact.FromInt(den)).Num())
+	}
+	return exact.Quotient(den, num)
+}

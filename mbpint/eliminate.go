@@ -9,7 +9,6 @@ import (
 	"chcsolver/qe"
 	"chcsolver/simplify"
 	"chcsolver/tree"
-	"chcsolver/value"
 )
 
 // containsAny reports whether a term contains one of the variables.
@@ -129,20 +128,9 @@ func Pick(f api.Term, vars []string, env []api.Binding) ([]api.Binding, api.Errn
 	if e != api.OK {
 		return nil, e
 	}
-	last, e := fol.Valid(l[len(l)-1])
+	out, e := qe.Pick(l, names, api.SortInt, env, candidates)
 	if e != api.OK {
 		return nil, e
-	}
-	v, e := value.Eval(last, env, nil)
-	if e != api.OK {
-		return nil, e
-	}
-	if !v.Bool {
-		return nil, api.ErrForm
-	}
-	out, is := qe.Choose(l, names, api.SortInt, env, candidates)
-	if !is {
-		return nil, api.ErrForm
 	}
 	return out[:len(vars):len(vars)], api.OK
 }

@@ -36,12 +36,6 @@ func Arguments(l []api.Term, vars []string, env []api.Binding, isLiteral func(t 
 	return form
 }
 
-// Definition is the term of an eliminated variable.
-type Definition struct {
-	Name string
-	Term api.Term
-}
-
 // Projector eliminates variables from literals one after the other, guided by a model.
 type Projector struct {
 	Env      map[string]exact.Rat
@@ -128,4 +122,43 @@ func LinearTerm(l api.Linear) api.Term {
 		panic(tooLarge{})
 	}
 	return t
+}
+
+// Project eliminates variables from literals that are true under env; eliminate removes one variable.
+func Project(l []api.Term, vars []string, env []api.Binding, isLiteral func(t api.Term) bool, eliminate func(p *Projector, name string)) (api.Projection, api.Errno) {
+	if e := Arguments(l, vars, env, isLiteral); e != api.OK {
+		return api.Projection{}, e
+	}
+	var out api.Projection
+	var e api.Errno
+	if limit := Try(func() {
+		p := NewProjector(l, vars, env)
+		for _, name := range vars {
+			eliminate(p, name)
+		}
+		out, e = p.Result(vars)
+	}); limit != api.OK {
+		return api.Projection{}, limit
+	}
+	return out, e
+}
+
+// Pick returns values of the names with which the first formula of a chain is true.
+func Pick(chain []api.Term, names []string, sort int, env []api.Binding, candidates func(t api.Term, name string, env []api.Binding) []string) ([]api.Binding, api.Errno) {
+	last, e := fol.Valid(chain[len(chain)-1])
+	if e != api.OK {
+		return nil, e
+	}
+	v, e := value.Eval(last, env, nil)
+	if e != api.OK {
+		return nil, e
+	}
+	if !v.Bool {
+		return nil, api.ErrForm
+	}
+	out, is := Choose(chain, names, sort, env, candidates)
+	if !is {
+		return nil, api.ErrForm
+	}
+	return out, api.OK
 }
