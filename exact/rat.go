@@ -8,10 +8,8 @@ type Rat struct {
 	den Int // 0 stands for 1, so that the zero value is a number
 }
 
-var one = Int{small: 1}
-
-// One is the number 1.
-func One() Rat { return Rat{num: one} }
+// One returns the number 1.
+func One() Rat { return Rat{num: FromInt64(1)} }
 
 // FromInt returns the number a.
 func FromInt(a Int) Rat { return Rat{num: a} }
@@ -25,7 +23,7 @@ func (a Rat) Num() Int { return a.num }
 // Den returns the denominator, which is positive.
 func (a Rat) Den() Int {
 	if a.den.IsZero() {
-		return one
+		return FromInt64(1)
 	}
 	return a.den
 }
